@@ -1,0 +1,1 @@
+"""Evenmarket: a market whose books say what can still change."""
