@@ -1,0 +1,65 @@
+"""The examples of the document's interface, as they stand there."""
+
+import importlib
+import pathlib
+import unittest
+
+MODULES = ["errors", "names", "rows", "journals", "statements", "orders", "ladders", "matching", "clearing", "auctions",
+           "pools"]
+SECTIONS = {"rows": 4, "journals": 5, "statements": 5, "orders": 3, "ladders": 4, "matching": 5, "clearing": 7,
+            "auctions": 8, "pools": 4}
+
+
+def sections():
+    """The dict from the names of modules to lists of tuples (statement, what follows)."""
+    found = {}
+    text = pathlib.Path(__file__).with_name("examples.txt").read_text()
+    for line in text.splitlines():
+        if line.startswith("# "):
+            steps = found[line[2:]] = []
+        elif line.startswith(">>> "):
+            steps.append((line[4:], []))
+        elif line:
+            steps[-1][1].append(line)
+    return found
+
+
+def names_of_package():
+    """Everything that the modules define, and nothing that they import."""
+    space = {}
+    for module in MODULES:
+        for name, value in vars(importlib.import_module("evenmarket." + module)).items():
+            if getattr(value, "__module__", None) == "evenmarket." + module:
+                space[name] = value
+    return space
+
+
+def outcome(statement, space):
+    """The lines that the document would write below a statement."""
+    try:
+        try:
+            code = compile(statement, "example", "eval")
+        except SyntaxError:
+            exec(statement, space)
+            return []
+        value = eval(code, space)
+    except ValueError as error:
+        return ["raises " + type(error).__name__ + "(" + ", ".join(map(repr, vars(error).values())) + ")"]
+    return [] if value is None else [repr(value)]
+
+
+class Examples(unittest.TestCase):
+
+    def test_all_are_there(self):
+        self.assertEqual({name: len(steps) for name, steps in sections().items()}, SECTIONS)
+
+    def test_each_one(self):
+        for name, steps in sections().items():
+            space = names_of_package()
+            for statement, follows in steps:
+                with self.subTest(section=name, statement=statement):
+                    self.assertEqual(outcome(statement, space), follows)
+
+
+if __name__ == "__main__":
+    unittest.main()
