@@ -7,13 +7,9 @@ def entered(ladder, order):
     """The ladder behind an order has come, and the events of it."""
     check_entering(ladder, order)
     behind, events, left, word = met(ladder, order)
-    if left == 0:
-        return behind, events
-    if order.kind == "whole":
-        return ladder, [("dropped", order.name, order.amount, "whole")]
-    if order.kind == "stays":
-        return behind.placed(order, left), events + [("stands", order.name, left)]
-    return behind, events + [("dropped", order.name, left, word)]
+    if left > 0 and order.kind == "whole":
+        return ladder, not_whole(order)
+    return with_rest(behind, order, events, left, word)
 
 
 def changed(ladder, name, order):
@@ -31,6 +27,20 @@ def changed(ladder, name, order):
 def would(ladder, order):
     """The events that there would be if an order came."""
     return entered(ladder, order)[1]
+
+
+def with_rest(ladder, order, events, left, word):
+    """The tuple (ladder, events) behind the units that are left of an order have stood or been dropped."""
+    if left == 0:
+        return ladder, events
+    if order.kind == "stays":
+        return ladder.placed(order, left), events + [("stands", order.name, left)]
+    return ladder, events + [("dropped", order.name, left, word)]
+
+
+def not_whole(order):
+    """The events of an order that cannot be traded wholly."""
+    return [("dropped", order.name, order.amount, "whole")]
 
 
 def check_entering(ladder, order):
@@ -61,7 +71,7 @@ def met(ladder, order):
         if units == 0:
             return ladder, events, left, "most"
         ladder = ladder.taken(side, units)
-        events = with_trade(events, trade(order, name, price, units))
+        events = with_units(events, trade(order, name, price, units))
         left -= units
     return ladder, events, left, "once"
 
@@ -73,8 +83,8 @@ def trade(order, name, price, units):
     return ("trade", name, order.name, price, units)
 
 
-def with_trade(events, event):
-    """The events and one more; trades of the same two orders beside each other are told as one."""
-    if len(events) > 0 and events[-1][:4] == event[:4]:
-        return events[:-1] + [(*event[:4], events[-1][4] + event[4])]
+def with_units(events, event):
+    """The events and one more; units that differ in nothing from those of the last event are told with them."""
+    if len(events) > 0 and events[-1][:-1] == event[:-1]:
+        return events[:-1] + [(*event[:-1], events[-1][-1] + event[-1])]
     return events + [event]

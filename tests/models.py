@@ -1,4 +1,4 @@
-"""Ladders and matching once more, unit by unit and as plainly as the document's words, to compare with."""
+"""Ladders, matching and pools once more, unit by unit and as plainly as the document's words, to compare with."""
 
 
 class Stand:
@@ -136,6 +136,82 @@ def enter(stand, order):
         return events
     if order.kind == "whole":
         stand.orders, stand.left, stand.queues = before.orders, before.left, before.queues
+        return [("dropped", order.name, order.amount, "whole")]
+    if order.kind == "stays":
+        stand.add(order, left)
+        return events + [("stands", order.name, left)]
+    return events + [("dropped", order.name, left, word)]
+
+
+class Stock:
+    """The state of a pool: its money and its stock."""
+
+    def __init__(self, money, stock):
+        self.money = money
+        self.stock = stock
+
+    def price(self, side):
+        """The price for an order of a side, or None."""
+        if side == "buy":
+            return None if self.stock < 2 else (self.money + self.stock - 2) // (self.stock - 1)
+        return self.money // (self.stock + 1) or None
+
+    def trade(self, side):
+        price = self.price(side)
+        self.money += price if side == "buy" else -price
+        self.stock += -1 if side == "buy" else 1
+        return price
+
+
+def enter_beside(stand, stock, order):
+    """What [44] says, one unit after the other; the events."""
+    before, pooled = stand.twin(), (stock.money, stock.stock)
+    other = "sell" if order.side == "buy" else "buy"
+    sign = 1 if order.side == "buy" else -1
+    events = []
+    left = order.amount
+    most = order.most
+    word = "once"
+    while left:
+        slices = stand.slices(other)
+        first = stand.orders[slices[0][0]] if slices else None
+        offers = []
+        if first:
+            offers.append((sign * first.price, 0))
+        if stock.price(order.side) is not None:
+            offers.append((sign * stock.price(order.side), 1))
+        if not offers:
+            break
+        price, which = min(offers)
+        price *= sign
+        if order.price is not None and sign * order.price < sign * price:
+            break
+        if which == 0 and first.member == order.member:
+            events.append(("dropped", first.name, stand.left[first.name], "own"))
+            stand.drop(first.name)
+            continue
+        if most is not None and price > most:
+            word = "most"
+            break
+        if which == 0:
+            stand.take(other)
+            both = (order.name, first.name) if order.side == "buy" else (first.name, order.name)
+            event = ("trade", *both, price)
+        else:
+            stock.trade(order.side)
+            event = ("pool", order.name, price)
+        left -= 1
+        if most is not None:
+            most -= price
+        if events and events[-1][:-1] == event:
+            events[-1] = (*event, events[-1][-1] + 1)
+        else:
+            events.append((*event, 1))
+    if left == 0:
+        return events
+    if order.kind == "whole":
+        stand.orders, stand.left, stand.queues = before.orders, before.left, before.queues
+        stock.money, stock.stock = pooled
         return [("dropped", order.name, order.amount, "whole")]
     if order.kind == "stays":
         stand.add(order, left)

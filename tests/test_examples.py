@@ -5,9 +5,9 @@ import pathlib
 import unittest
 
 MODULES = ["errors", "names", "rows", "journals", "statements", "orders", "ladders", "matching", "clearing", "auctions",
-           "pools"]
+           "pools", "both", "lots", "gains", "positions", "cover"]
 SECTIONS = {"rows": 4, "journals": 5, "statements": 5, "orders": 3, "ladders": 4, "matching": 5, "clearing": 7,
-            "auctions": 8, "pools": 4}
+            "auctions": 8, "pools": 4, "both": 4, "lots": 5, "gains": 4, "positions": 3, "cover": 6}
 
 
 def sections():
@@ -24,10 +24,10 @@ def sections():
     return found
 
 
-def names_of_package():
-    """Everything that the modules define, and nothing that they import."""
+def names_of_package(section):
+    """Everything that the modules define, and nothing that they import; what the section's module defines counts."""
     space = {}
-    for module in MODULES:
+    for module in MODULES + [section]:
         for name, value in vars(importlib.import_module("evenmarket." + module)).items():
             if getattr(value, "__module__", None) == "evenmarket." + module:
                 space[name] = value
@@ -55,7 +55,7 @@ class Examples(unittest.TestCase):
 
     def test_each_one(self):
         for name, steps in sections().items():
-            space = names_of_package()
+            space = names_of_package(name)
             for statement, follows in steps:
                 with self.subTest(section=name, statement=statement):
                     self.assertEqual(outcome(statement, space), follows)

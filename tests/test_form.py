@@ -20,9 +20,11 @@ NO_WORDS = ("type typing enum Enum Generic Protocol ABC namedtuple NamedTuple Ty
             "contextmanager abstractmethod").split()
 NO_VARIABLES = set("compile copyright credits delattr dir eval exec exit gc getattr globals hasattr help id license "
                    "locals os quit setattr super type vars sys".split())
-NO_NODES = (ast.Global, ast.Nonlocal, ast.AsyncFunctionDef, ast.AsyncFor, ast.AsyncWith, ast.Await, ast.Yield,
-            ast.YieldFrom, ast.GeneratorExp, ast.Set, ast.SetComp, ast.Div, ast.NamedExpr, ast.With, ast.Match,
+NO_NODES = (ast.Global, ast.Nonlocal, ast.AsyncFunctionDef, ast.AsyncFor, ast.AsyncWith, ast.Await, ast.YieldFrom,
+            ast.GeneratorExp, ast.Set, ast.SetComp, ast.Div, ast.NamedExpr, ast.With, ast.Match,
             ast.AnnAssign, ast.Import, ast.Assert)
+# The functions that the document wants to be generators.
+GENERATORS = []
 # What is iterated at once, never kept.
 FLEETING = {"zip", "enumerate", "range", "reversed", "set", "items", "keys", "values"}
 
@@ -104,6 +106,19 @@ class Form(unittest.TestCase):
                     self.assertEqual([one.id for one in node.decorator_list], ["classmethod"] * (node.name == "read"), at)
                 if isinstance(node, ast.ClassDef):
                     self.assertEqual(node.decorator_list, [], at)
+
+    def test_generators(self):
+        found = []
+        for file, tree in trees():
+            for node in functions(tree):
+                rows = [one for one in ast.walk(node) if isinstance(one, ast.Expr) and isinstance(one.value, ast.Yield)]
+                self.assertEqual(len(rows), len([one for one in ast.walk(node) if isinstance(one, ast.Yield)]))
+                if rows:
+                    found.append(node.name)
+        self.assertEqual(sorted(found), GENERATORS)
+        names = [node.name for file, tree in trees() for node in functions(tree) if isinstance(node, ast.FunctionDef)]
+        for name in GENERATORS:
+            self.assertEqual(names.count(name), 1)
 
     def test_imports(self):
         defined = {}

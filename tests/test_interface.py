@@ -20,6 +20,11 @@ ERRORS = {
         "BadBid": ["given"], "TooManyBids": ["given"], "BidTaken": ["given"], "BothSides": ["given"], "NoClearing": []},
     "auctions": {"BadWidth": ["given"], "UnknownBid": ["given"], "Cleared": []},
     "pools": {"BadPool": ["field", "value"], "UnlikeUnits": ["one", "other"], "NoUnit": [], "NoShares": []},
+    "lots": {
+        "BadLots": ["given"], "BadCost": ["given"], "BadWay": ["given"], "NotThere": ["given"], "BadEvent": ["index"],
+        "BadIndex": ["given"]},
+    "positions": {"BadPosition": ["given"], "BadPrices": ["given"], "UnknownUnit": ["given"]},
+    "cover": {"BadMove": ["given"], "BadCount": ["count"], "BadStanding": ["given"]},
 }
 
 FUNCTIONS = {
@@ -34,6 +39,17 @@ FUNCTIONS = {
         "greatest_gain": "(orders)", "best": "(orders)", "clearing": "(orders, told)", "fills": "(orders, price)",
         "pairs": "(orders, price)", "is_paper": "(orders, value)", "paper_of": "(orders, told)",
         "turning": "(orders, told, side, price)"},
+    "both": {
+        "beside": "(ladder, pool, order)", "levelled": "(ladder, pool)", "cheapest": "(ladder, pool, side, units)"},
+    "gains": {"cost_range": "(lots, amount)", "gains": "(events)", "turned": "(events, at, event)"},
+    "positions": {
+        "joined": "(one, other)", "net": "(trades)", "behind": "(before, trades)",
+        "marked": "(before, trades, old, new)"},
+    "cover": {
+        "loss": "(position, move)", "need": "(position, moves)", "worst_move": "(position, moves)",
+        "worst": "(position, orders, moves, prices)", "covered": "(position, orders, moves, prices, money)",
+        "is_uncovered": "(position, orders, moves, prices, money, value)",
+        "room": "(position, orders, moves, prices, money, side, contract, price)"},
 }
 
 CLASSES = {
@@ -65,6 +81,10 @@ CLASSES = {
         "bought": "(self, count=1)", "asks": "(self, count)", "bids": "(self, count)",
         "joined": "(self, money, stock)", "left": "(self, shares)", "__eq__": "(self, other)", "__str__": "(self)",
         "read": "(cls, text)"},
+    ("lots", "Lots"): {
+        "__init__": "(self, lots=())", "lots": "(self)", "units": "(self)", "cost": "(self)",
+        "came": "(self, day, amount, cost)", "went": "(self, amount, way)", "__eq__": "(self, other)",
+        "text": "(self)", "read": "(cls, text)"},
 }
 
 
