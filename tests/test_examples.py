@@ -5,9 +5,11 @@ import pathlib
 import unittest
 
 MODULES = ["errors", "names", "rows", "journals", "statements", "orders", "ladders", "matching", "clearing", "auctions",
-           "pools", "both", "lots", "gains", "positions", "cover"]
+           "pools", "both", "lots", "gains", "positions", "cover", "closing", "waterfall", "shares", "dues", "greatest",
+           "rounds"]
 SECTIONS = {"rows": 4, "journals": 5, "statements": 5, "orders": 3, "ladders": 4, "matching": 5, "clearing": 7,
-            "auctions": 8, "pools": 4, "both": 4, "lots": 5, "gains": 4, "positions": 3, "cover": 6}
+            "auctions": 8, "pools": 4, "both": 4, "lots": 5, "gains": 4, "positions": 3, "cover": 6, "closing": 4,
+            "waterfall": 1, "shares": 3, "dues": 3, "rounds": 4}
 
 
 def sections():

@@ -24,7 +24,7 @@ NO_NODES = (ast.Global, ast.Nonlocal, ast.AsyncFunctionDef, ast.AsyncFor, ast.As
             ast.GeneratorExp, ast.Set, ast.SetComp, ast.Div, ast.NamedExpr, ast.With, ast.Match,
             ast.AnnAssign, ast.Import, ast.Assert)
 # The functions that the document wants to be generators.
-GENERATORS = []
+GENERATORS = ["all_sets"]
 # What is iterated at once, never kept.
 FLEETING = {"zip", "enumerate", "range", "reversed", "set", "items", "keys", "values"}
 

@@ -25,6 +25,12 @@ ERRORS = {
         "BadIndex": ["given"]},
     "positions": {"BadPosition": ["given"], "BadPrices": ["given"], "UnknownUnit": ["given"]},
     "cover": {"BadMove": ["given"], "BadCount": ["count"], "BadStanding": ["given"]},
+    "closing": {"BadClosing": ["given"]},
+    "shares": {"BadDebt": ["given"], "NoDebtor": ["given"]},
+    "dues": {
+        "BadNumber": ["given"], "BadLegs": ["given"], "BadDues": ["given"], "BadHoldings": ["given"],
+        "BadQueues": ["given"], "BadOwners": ["given"], "NoDue": ["given"], "Duplicate": ["given"],
+        "NotTogether": ["given"], "Settles": ["given"], "TooMany": ["count"]},
 }
 
 FUNCTIONS = {
@@ -50,6 +56,17 @@ FUNCTIONS = {
         "worst": "(position, orders, moves, prices)", "covered": "(position, orders, moves, prices, money)",
         "is_uncovered": "(position, orders, moves, prices, money, value)",
         "room": "(position, orders, moves, prices, money, side, contract, price)"},
+    "closing": {
+        "closings": "(position, moves, money)", "closed": "(position, closing)",
+        "is_closing": "(position, moves, money, value)", "covering": "(position, moves, cover, free)"},
+    "waterfall": {"waterfall": "(lack, house, funds)", "bearer": "(lack, house, funds)"},
+    "shares": {
+        "row_of": "(debts, money)", "paying": "(debts, money)", "round_after": "(debts, money, row)",
+        "is_fair": "(debts, money, value)", "short": "(debts, money)", "brought_down": "(debts, money, member)",
+        "lacking": "(debts, money, member)", "after_paying": "(debts, money)"},
+    "dues": {"due_of": "(number, trade)", "netted": "(number, dues)"},
+    "greatest": {
+        "goes_together": "(held, value)", "settled": "(held)", "failed": "(held)", "all_sets": "(held)"},
 }
 
 CLASSES = {
@@ -85,6 +102,14 @@ CLASSES = {
         "__init__": "(self, lots=())", "lots": "(self)", "units": "(self)", "cost": "(self)",
         "came": "(self, day, amount, cost)", "went": "(self, amount, way)", "__eq__": "(self, other)",
         "text": "(self)", "read": "(cls, text)"},
+    ("dues", "Due"): {
+        "__init__": "(self, number, legs)", "gives": "(self, owner, unit)", "takes": "(self, owner, unit)",
+        "owners": "(self)", "doors": "(self)", "__eq__": "(self, other)", "text": "(self)", "read": "(cls, text)"},
+    ("rounds", "Round"): {
+        "__init__": "(self, holdings, dues, queues=None)", "numbers": "(self)", "__len__": "(self)",
+        "due": "(self, number)", "doors": "(self)", "queue": "(self, owner, unit)", "holds": "(self, owner, unit)",
+        "owners": "(self)", "with_due": "(self, due)", "without": "(self, number)",
+        "with_more": "(self, owner, unit, amount)", "after": "(self, numbers)", "__eq__": "(self, other)"},
 }
 
 
