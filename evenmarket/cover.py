@@ -76,8 +76,7 @@ def is_uncovered(position, orders, moves, prices, money, value):
     if not is_filling(value, orders, moves):
         return False
     index, filled = value
-    losses = unit_losses(orders, moves[index], prices)
-    return loss_by(position, moves[index]) + sum([units * one for units, one in zip(filled, losses)]) > money
+    return loss_with(position, moves[index], filled, unit_losses(orders, moves[index], prices)) > money
 
 
 def room(position, orders, moves, prices, money, side, contract, price):
@@ -158,16 +157,21 @@ def unit_losses(orders, move, prices):
     return losses
 
 
+def loss_with(position, move, filled, losses):
+    """What a position loses by a move together with filled units, which lose so much each."""
+    return loss_by(position, move) + sum([units * one for units, one in zip(filled, losses)])
+
+
 def worst_of(position, orders, moves, prices):
     """The tuple of `worst`, all being right."""
     found = []
     for move in moves:
         losses = unit_losses(orders, move, prices)
         filled = tuple([order[3] if one > 0 else 0 for order, one in zip(orders, losses)])
-        found.append((loss_by(position, move) + sum([units * one for units, one in zip(filled, losses)]), filled))
-    greatest = max([lost for lost, filled in found])
-    index = [lost for lost, filled in found].index(greatest)
-    return (greatest, index, found[index][1])
+        found.append((loss_with(position, move, filled, losses), filled))
+    lost = [row[0] for row in found]
+    index = lost.index(max(lost))
+    return (lost[index], index, found[index][1])
 
 
 def is_filling(value, orders, moves):

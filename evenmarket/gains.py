@@ -69,7 +69,8 @@ def is_event(value):
 def behind_event(lots, event):
     """The Lots behind an event, and a list of the tuple (cost, gain, parts) if units went."""
     if event[0] == "came":
-        return lots.came(*event[1:]), []
+        word, day, amount, cost = event
+        return lots.came(day, amount, cost), []
     word, day, amount, money, way = event
     after, cost, parts = lots.went(amount, way)
     return after, [(cost, money - cost, parts)]

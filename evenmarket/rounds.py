@@ -2,8 +2,9 @@
 
 from evenmarket.dues import BadDues, BadHoldings, BadQueues, Due, Duplicate, NoDue, NotTogether, TooMany, are_dues
 from evenmarket.errors import BadAmount
-from evenmarket.greatest import behind_all, goes_together
+from evenmarket.greatest import goes_together
 from evenmarket.names import is_count, is_member, is_unit, is_whole
+from evenmarket.sums import summed
 
 MOST_DUES = 12
 
@@ -74,15 +75,16 @@ class Round:
         """The round in which a member has more of a unit."""
         if not is_count(amount):
             raise BadAmount(amount)
-        return self._kept({**self._holdings, (owner, unit): self.holds(owner, unit) + amount}, [])
+        return self._kept(summed([self._holdings, {(owner, unit): amount}]), [])
 
     def after(self, numbers):
         """The round behind the handing over of dues that go together."""
         if not goes_together(self, numbers):
             raise NotTogether(numbers)
-        changed = [(leg[at], leg[2]) for number in numbers for leg in self.due(number).legs for at in (0, 1)]
-        holdings = {**self._holdings, **{door: behind_all(self, numbers, *door) for door in changed}}
-        return self._kept(holdings, numbers)
+        legs = [leg for number in numbers for leg in self.due(number).legs]
+        given = [{(giver, unit): -amount} for giver, taker, unit, amount in legs]
+        taken = [{(taker, unit): amount} for giver, taker, unit, amount in legs]
+        return self._kept(summed([self._holdings] + given + taken), numbers)
 
     def __len__(self):
         return len(self._dues)
