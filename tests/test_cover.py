@@ -173,7 +173,7 @@ class Worst(Checks):
                     self.assertIs(is_uncovered(position, orders, moves, prices, money, (at, numbers)), one > money)
 
     def test_errors_in_order(self):
-        self.check_errors(lambda position, orders, moves, prices: worst(position, orders, moves, prices))
+        self.check_errors(worst)
 
 
 class Covered(Checks):
