@@ -1,6 +1,6 @@
 """Closing out: what is closed of a position if money does not meet its need, and the covering of a day."""
 
-from evenmarket.cover import check_money, check_moves, need_of
+from evenmarket.cover import check_money, check_moves, loss_by, need_of
 from evenmarket.errors import BadAmount, MarketError
 from evenmarket.names import is_count, is_whole
 from evenmarket.positions import check_position
@@ -70,18 +70,57 @@ def closings_of(position, moves, money):
     """What is closed of a position, all being right."""
     names = sorted(position)
     sizes = [abs(position[name]) for name in names]
-    if money >= 0:
-        for total in range(sum(sizes)):
-            for numbers in choices(total, sizes):
-                closing = {name: units for name, units in zip(names, numbers) if units > 0}
-                if need_of(left_of(position, closing), moves) <= money:
-                    return closing
-    return dict(zip(names, sizes))
+    if money < 0:
+        return dict(zip(names, sizes))
+    wants = [(loss_by(position, move) - money, [spared_by(position, move, name) for name in names]) for move in moves]
+    numbers = fewest(sizes, wants)
+    return {name: units for name, units in zip(names, numbers) if units > 0}
 
 
-def choices(total, sizes):
-    """The tuples of numbers up to some sizes that sum to a total, those with more of the first one ahead."""
-    if len(sizes) == 0:
-        return [()] if total == 0 else []
-    return [(units, *rest) for units in range(min(total, sizes[0]), -1, -1)
-            for rest in choices(total - units, sizes[1:])]
+def spared_by(position, move, name):
+    """What a position loses less by a move for each unit of a contract that is closed."""
+    change = move.get(name, 0)
+    return -change if position[name] > 0 else change
+
+
+def fewest(sizes, wants):
+    """The fewest numbers up to some sizes that spare what is wanted; of several ones, those with most of the first.
+
+    A want is a tuple of what must be spared in all, and of what a unit of each number spares. With all units of all
+    sizes each want is met.
+    """
+    # The last two numbers are found at once, so there are two at least.
+    missing = [0] * max(0, 2 - len(sizes))
+    wants = [(whole, spared + missing) for whole, spared in wants]
+    total = 0
+    found = split(total, sizes + missing, wants)
+    while found is None:
+        total += 1
+        found = split(total, sizes + missing, wants)
+    return found
+
+
+def split(total, sizes, wants):
+    """The numbers up to some sizes that sum to a total and spare what is wanted, with most of the first; or None."""
+    if len(sizes) == 2:
+        return split_in_two(total, sizes, wants)
+    for first in range(min(total, sizes[0]), -1, -1):
+        rest = split(total - first, sizes[1:], [(whole - first * spared[0], spared[1:]) for whole, spared in wants])
+        if rest is not None:
+            return [first, *rest]
+    return None
+
+
+def split_in_two(total, sizes, wants):
+    """What `split` tells for two sizes: each want bounds the first number from one side."""
+    least, most = max(0, total - sizes[1]), min(total, sizes[0])
+    for whole, spared in wants:
+        more = spared[0] - spared[1]
+        wanted = whole - total * spared[1]
+        if more > 0:
+            least = max(least, -(-wanted // more))
+        elif more < 0:
+            most = min(most, wanted // more)
+        elif wanted > 0:
+            return None
+    return [most, total - most] if least <= most else None

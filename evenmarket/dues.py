@@ -2,6 +2,7 @@
 
 from evenmarket.errors import BadText, MarketError
 from evenmarket.names import is_amount, is_count, is_member, is_unit
+from evenmarket.sums import summed
 from evenmarket.texts import is_numeral
 
 MOST_LEGS = 4
@@ -139,6 +140,13 @@ def due_of(number, trade):
     """The due by which the goods of a trade and the money for them are handed over."""
     buyer, seller, unit, price, amount = trade
     return Due(number, [(seller, buyer, unit, amount), (buyer, seller, "money", price * amount)])
+
+
+def changes_of(due):
+    """The dict from tuples (owner, unit) to what the owners get by a due, below 0 for what they give."""
+    parts = [part for giver, taker, unit, amount in due.legs
+             for part in ({(giver, unit): -amount}, {(taker, unit): amount})]
+    return summed(parts)
 
 
 def netted(number, dues):

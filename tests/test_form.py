@@ -24,7 +24,7 @@ NO_NODES = (ast.Global, ast.Nonlocal, ast.AsyncFunctionDef, ast.AsyncFor, ast.As
             ast.GeneratorExp, ast.Set, ast.SetComp, ast.Div, ast.NamedExpr, ast.With, ast.Match,
             ast.AnnAssign, ast.Import, ast.Assert)
 # The functions that the document wants to be generators.
-GENERATORS = ["all_sets"]
+GENERATORS = ["all_sets", "fillings"]
 # What is iterated at once, never kept.
 FLEETING = {"zip", "enumerate", "range", "reversed", "set", "items", "keys", "values"}
 
@@ -160,7 +160,10 @@ class Form(unittest.TestCase):
                 self.assertIsInstance(node, (ast.ImportFrom, ast.FunctionDef, ast.ClassDef, ast.Assign), file.name)
                 if isinstance(node, ast.Assign):
                     self.assertEqual(len(node.targets), 1)
-                    ast.literal_eval(node.value)
+                    # In a dict, functions that are defined above may stand, too.
+                    for one in node.value.values if isinstance(node.value, ast.Dict) else [node.value]:
+                        if not (isinstance(one, ast.Name) and one.id in names):
+                            ast.literal_eval(one)
                     names.append(node.targets[0].id)
                 elif isinstance(node, ast.ImportFrom):
                     names += [alias.name for alias in node.names]
