@@ -4,7 +4,7 @@ from evenmarket.facts import NotKnown
 from evenmarket.journals import Journal, adjusting
 from evenmarket.names import is_count
 from evenmarket.run import Run
-from evenmarket.told import Told, told_of
+from evenmarket.told import Told
 
 
 class Market:
@@ -12,10 +12,14 @@ class Market:
 
     def __init__(self, rules):
         self._told = Told(rules)
+        self._posted = Journal()
 
     def tell(self, fact):
         """Tell a fact; its number is returned, None for a fill."""
-        return self._told.tell(fact)
+        number = self._told.tell(fact)
+        if fact[0] == "close":
+            self._posted = self._posted.with_rows(rows_at_closing(self._posted, self.run().journal(), fact[1]))
+        return number
 
     def rules(self):
         """The rules."""
@@ -34,7 +38,8 @@ class Market:
         if not is_count(count) or count > len(self):
             raise NotKnown(count)
         market = Market(self.rules())
-        market._told = told_of(self.rules(), self.facts()[:count])
+        for fact in self.facts()[:count]:
+            market.tell(fact)
         return market
 
     def open_slips(self):
@@ -43,13 +48,7 @@ class Market:
 
     def posted(self):
         """The journal of what was posted at the closings, with what was told until then."""
-        posted = Journal()
-        told = Told(self.rules())
-        for fact in self.facts():
-            told.tell(fact)
-            if fact[0] == "close":
-                posted = posted.with_rows(rows_at_closing(posted, Run(told).journal(), fact[1]))
-        return posted
+        return self._posted
 
     def __len__(self):
         return len(self._told)

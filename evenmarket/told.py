@@ -71,13 +71,14 @@ class Told:
     def tell(self, fact):
         """Tell a fact; its number is returned, None for a fill."""
         self.check(fact)
-        self._facts.append(copied(fact))
+        kept = copied(fact)
+        self._facts.append(kept)
         if fact[0] == "fill":
             self._filled[fact[1]] = fact[2]
             return None
         if fact[0] == "close":
             self._days += 1
-        self._numbered.append(copied(fact))
+        self._numbered.append(kept)
         return len(self._numbered) - 1
 
     def holding(self, filling):

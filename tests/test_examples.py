@@ -6,10 +6,12 @@ import unittest
 
 MODULES = ["errors", "names", "rows", "journals", "statements", "orders", "ladders", "matching", "clearing", "auctions",
            "pools", "both", "lots", "gains", "positions", "cover", "closing", "waterfall", "shares", "dues", "greatest",
-           "rounds"]
+           "rounds", "strikes", "bundles", "helping", "handing", "facts", "telling", "run", "market", "final", "sight",
+           "console"]
 SECTIONS = {"rows": 4, "journals": 5, "statements": 5, "orders": 3, "ladders": 4, "matching": 5, "clearing": 7,
             "auctions": 8, "pools": 4, "both": 4, "lots": 5, "gains": 4, "positions": 3, "cover": 6, "closing": 4,
-            "waterfall": 1, "shares": 3, "dues": 3, "rounds": 4}
+            "waterfall": 1, "shares": 3, "dues": 3, "rounds": 4, "strikes": 2, "bundles": 1, "helping": 2, "handing": 1,
+            "telling": 4, "run": 5, "market": 5, "final": 5, "sight": 7, "console": 7}
 
 
 def sections():
@@ -56,11 +58,15 @@ class Examples(unittest.TestCase):
         self.assertEqual({name: len(steps) for name, steps in sections().items()}, SECTIONS)
 
     def test_each_one(self):
+        made = {}
         for name, steps in sections().items():
-            space = names_of_package(name)
+            package = names_of_package(name)
+            # What an earlier section has made stands in those behind it, too.
+            space = {**made, **package}
             for statement, follows in steps:
                 with self.subTest(section=name, statement=statement):
                     self.assertEqual(outcome(statement, space), follows)
+            made.update((key, value) for key, value in space.items() if package.get(key) is not value)
 
 
 if __name__ == "__main__":
