@@ -88,7 +88,8 @@ def reached(told, fill):
     behind = told.twin()
     behind.tell(fill)
     one, other = Run(told).things(), Run(behind).things()
-    return sorted([thing for thing in {**one, **other} if one.get(thing) != other.get(thing)])
+    gone = [thing for thing in one if one[thing] != other.get(thing)]
+    return sorted(gone + [thing for thing in other if thing not in one])
 
 
 def check_question(told, question):
@@ -104,7 +105,7 @@ def all_fillings(told):
         raise ManySlips(len(slips))
     rows = [[]]
     for slip in slips:
-        choices = [None, *range(len(told.fact(slip)[2]))]
+        choices = [None] + list(range(len(told.fact(slip)[2])))
         rows = [[*row, choice] for row in rows for choice in choices]
     # Choices came in their order, so of equally many indexes the lists are in order.
     return [dict(zip(slips, row)) for row in sorted(rows, key=indexes_in)]

@@ -130,7 +130,7 @@ def hand_over(books, day):
         books.post(day, row.cause, row.postings())
         books.noted[("settled", number, day)] = money_of(handed[number])
         del books.dues[number]
-    books.queues = {door: [number for number in books.queues[door] if number not in handed] for door in books.queues}
+    books.queues = {door: [one for one in books.queues[door] if one not in handed] for door in books.queues}
     return handed
 
 

@@ -198,7 +198,7 @@ class Form(unittest.TestCase):
                     else:
                         self.assertIn(node.func.attr, METHODS | own, at)
                         self.assertNotIn(node.func.attr, NOWHERE, at)
-                if isinstance(node, (ast.Assign, ast.AugAssign, ast.Return)):
+                if isinstance(node, (ast.Assign, ast.AugAssign, ast.Return, ast.Starred)):
                     self.assertNotIn(name_of_call(node.value), FLEETING, (file.name, node.lineno))
 
     def test_errors_that_are_caught(self):
