@@ -9,9 +9,9 @@ class Books:
     """What has been posted, and what stands; the values of its dicts are exchanged, never changed.
 
     `entries` has the tuples (day, cause, postings) of the rows, `noted` the things of the closed days. `positions` is
-    a dict from members, `dues` one from numbers to trades of goods, `queues` one from tuples (owner, unit) to lists of
-    numbers, `loans` one from numbers to tuples (due, lender, borrower, left), `stores` one from tuples (member, good)
-    to Lots, `habits` one from members to the ways in which they part them.
+    a dict from members, `dues` one from numbers to tuples (trade, Due), `queues` one from tuples (owner, unit) to lists
+    of numbers, `loans` one from numbers to tuples (until, lender, borrower, left), `stores` one from tuples
+    (member, good) to Lots, `habits` one from members to the ways in which they part them.
     """
 
     def __init__(self, rules):

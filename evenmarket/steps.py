@@ -119,14 +119,13 @@ def bring_forward(books, fact):
 
 def hand_over(books, day):
     """Settle the greatest set of the dues that stand; the dict of the trades that settled, by numbers, is returned."""
-    dues = {number: due_of(number, books.dues[number]) for number in books.dues}
-    changes = {number: changes_of(dues[number]) for number in dues}
+    changes = {number: changes_of(books.dues[number][1]) for number in books.dues}
     balances = books.balances()
     has = {account[:2]: balances[account] for account in balances if is_member(account[0]) and account[2] == "free"}
     handed = {}
-    for number in greatest_of(books.queues, changes, has, list(dues)):
-        handed[number] = books.dues[number]
-        row = rows_of(day, dues[number])
+    for number in greatest_of(books.queues, changes, has, list(changes)):
+        handed[number] = books.dues[number][0]
+        row = rows_of(day, books.dues[number][1])
         books.post(day, row.cause, row.postings())
         books.noted[("settled", number, day)] = money_of(handed[number])
         del books.dues[number]
@@ -142,8 +141,9 @@ def money_of(trade):
 
 def stand(books, number, trade):
     """Let the due of a trade of goods stand, last in its queues."""
-    books.dues[number] = trade
-    for door in due_of(number, trade).doors():
+    due = due_of(number, trade)
+    books.dues[number] = (trade, due)
+    for door in due.doors():
         books.queues[door] = books.queue(door) + [number]
 
 
@@ -208,7 +208,7 @@ def note_state(books, day):
     for account in balances:
         noted[("balance", account, day)] = balances[account]
     for number in books.dues:
-        noted[("standing", number, day)] = money_of(books.dues[number])
+        noted[("standing", number, day)] = money_of(books.dues[number][0])
     for owner, unit in books.queues:
         if len(books.queues[(owner, unit)]) > 0:
             noted[("queue", owner, unit, day)] = tuple(books.queues[(owner, unit)])

@@ -74,6 +74,15 @@ class Closings(Checks):
     def test_sixty_units_of_two_contracts(self):
         self.same(closings({"oil": 60, "tin": -60}, [{}, {"oil": -40}, {"tin": 40}], 40), {"oil": 59, "tin": 59})
 
+    def test_three_contracts(self):
+        for seed in range(150):
+            pick = random.Random(seed)
+            names = ["oil", "tin", "zinc"]
+            position = {name: number for name in names if (number := pick.randrange(-5, 6))}
+            moves = [{}] + [{name: pick.randrange(-9, 10) for name in names if pick.randrange(3)} for _ in range(pick.randrange(8))]
+            money = pick.randrange(-1, 50)
+            self.same(closings(position, moves, money), best_choice(position, moves, money))
+
     def test_against_all_choices(self):
         for seed in range(200):
             pick = random.Random(seed)

@@ -87,6 +87,13 @@ class Sets(Case):
         self.same([settled(RING.with_more("ann", "iron", 2)), list(all_sets(RING.with_more("bob", "money", 6)))],
                   [[1, 2, 3, 4], [[], [1, 2, 3]]])
 
+    def test_sums_that_come_to_0_on_the_way(self):
+        # ann gives as much iron as she gets, with all dues and with those that are left when 4 and 5 are out.
+        dues = [Due(1, [("ann", "bob", "iron", 1)]), Due(2, [("bob", "ann", "iron", 1)]),
+                Due(4, [("ann", "cy", "iron", 1), ("cy", "ann", "gold", 1)]), Due(5, [("cy", "ann", "iron", 1), ("cy", "ann", "money", 1)])]
+        held = Round({("cy", "iron"): 1}, dues)
+        self.same([settled(held), failed(held), list(all_sets(held))], [[1, 2], [4, 5], [[], [1, 2]]])
+
     def test_no_dues(self):
         held = Round({("ann", "iron"): -4}, [])
         self.same([settled(held), failed(held), list(all_sets(held)), goes_together(held, [])], [[], [], [[]], True])

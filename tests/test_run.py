@@ -134,6 +134,15 @@ class Covering(Case):
                                          "cover 1 bob, bob money cover -10, bob money free 10"])
         self.same([things(OIL, facts, "called"), things(OIL, facts, "closing")], [{("called", "ann", 1): 1}, {}])
 
+    def test_a_single_unit_that_lacks(self):
+        free = Rules([], ["oil"], [{}])
+        facts = [("trade", 0, "ann", "bob", "oil", 50, 1), ("price", 0, "oil", 49), ("close", 0)]
+        self.same(texts(free, facts), ["mark 0 oil, ann money free -1, bob money free 1", "fall 0 ann, ann money free 1, house money free -1"])
+        # Cover comes back, and just one unit lacks, with nothing to close.
+        facts = [("pay", 0, "ann", "money", 5), ("pay", 0, "bob", "money", 5), ("trade", 0, "ann", "bob", "oil", 50, 1), ("close", 0),
+                 ("pay", 1, "ann", "money", -6), ("trade", 1, "bob", "ann", "oil", 50, 1), ("close", 1)]
+        self.same([things(OIL, facts, "called"), things(OIL, facts, "closing")], [{("called", "ann", 1): 1}, {}])
+
     def test_who_bears_what_lacks(self):
         facts = [("pay", 0, "ann", "money", 5), ("pay", 0, "bob", "money", 90), ("pay", 0, "cid", "money", 90), ("pay", 0, "dee", "money", 90),
                  ("fund", 0, "ann", 4), ("fund", 0, "bob", 2), ("fund", 0, "cid", 9), ("trade", 0, "ann", "dee", "oil", 50, 1)]

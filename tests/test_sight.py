@@ -149,6 +149,19 @@ class Told(Case):
                   [60, 8, 44, 60, None, 3, 3])
         self.same(len(market), 12)
 
+    def test_a_single_unit_of_money(self):
+        market = market_of(RULES, [("pay", 0, "ann", "wood", 1), ("pay", 0, "bob", "money", 2), ("trade", 0, "bob", "ann", "wood", 1, 1),
+                                   ("lend", 0, 1, "bob", "cid", 1), ("close", 0), ("close", 1)])
+        self.same([told(market, "ann", ("settled", 2, 1)), told(market, "cid", ("paid", "bob", "cid", 1))], [1, 1])
+
+    def test_members_who_are_called_as_other_things(self):
+        facts = [("trade", 0, "bob", "ann", "wood", 1, 1), ("pay", 0, "wood", "wood", 1), ("lend", 0, 1, "paid", "oil", 1), ("close", 0)]
+        for viewer in ["wood", "trade", "settled", "paid", "free"]:
+            self.raises(Hidden, {"given": ("settled", 0, 0)}, told, market_of(RULES, facts), viewer, ("settled", 0, 0))
+            self.raises(Hidden, {"given": ("paid", "ann", "bob", 0)}, told, market_of(RULES, facts), viewer, ("paid", "ann", "bob", 0))
+        self.same(seen(RULES, facts, "wood"), [("trade", 0, "", "", "wood", 1, 1), facts[1], ("hidden", 0), facts[3]])
+        self.same(told(market_of(RULES, facts), "wood", ("balance", ("wood", "wood", "free"), 0)), 1)
+
     def test_who_may_ask(self):
         for viewer in VIEWERS:
             for question in QUESTIONS:
