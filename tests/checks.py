@@ -1,5 +1,6 @@
 """What several tests use: a check of errors, and values of every kind."""
 
+import sys
 import unittest
 
 # None of these is an integer, a name, an account, a cause, an order, or another value of the package.
@@ -10,6 +11,18 @@ WRONG_DAYS = [-1, True, False, None, "1", (), [], {}, (1,), [1], {1: 1}, 1.0]
 WRONG_NAMES = ["", "abcdefghi", "Ann", "an n", "a1", "a_b", "\u00e4nn", "ann\n", " ann", 1, None, True, ("ann",), ["ann"],
                {"ann": 1}, b"ann"]
 RESERVED = ["house", "outside", "money"]
+
+
+def steps(call, *args):
+    """How often functions, builtins with them, are called and left by a call: a measure of its work without a clock."""
+    events = []
+    before = sys.getprofile()
+    sys.setprofile(lambda frame, event, told: events.append(event))
+    try:
+        call(*args)
+    finally:
+        sys.setprofile(before)
+    return len(events)
 
 
 class Case(unittest.TestCase):

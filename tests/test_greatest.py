@@ -18,7 +18,7 @@ UNITS = list(itertools.product(["ann", "bob", "cy"], ["money", "iron", "wood"]))
 def fits_together(held, numbers):
     """What [79] says of a list of different numbers of dues."""
     dues = [held.due(number) for number in numbers]
-    for owner, unit in UNITS:
+    for owner, unit in held.doors():
         queue = held.queue(owner, unit)
         there = [number in numbers for number in queue]
         if there != sorted(there, reverse=True):
